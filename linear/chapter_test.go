@@ -2,7 +2,6 @@ package linear
 
 import (
 	"maps"
-	"slices"
 	"testing"
 
 	"exactchange/api"
@@ -154,14 +153,16 @@ func (p place) let(t api.Term) api.Errno {
 		return api.ErrName
 	}
 	first := place{map[string]int{}, map[string]int{}, maps.Clone(p.lies)}
-	for _, name := range scope.Free(t.Args[0]) {
-		if n, known := p.names[name]; known {
+	in := newContents()
+	in.add(t.Args[0])
+	for name := range in.names {
+		if n, known := p.names[name]; known && !in.had[name] {
 			first.names[name] = min(n, 1)
 			p.names[name] = max(n-1, 0)
 		}
 	}
-	for _, token := range tokensIn(t.Args[0]) {
-		if n, there := p.tokens[token]; there {
+	for token := range in.tokens {
+		if n, there := p.tokens[token]; there && !in.held[token] {
 			first.tokens[token] = n
 			delete(p.tokens, token)
 		}
@@ -173,22 +174,39 @@ func (p place) let(t api.Term) api.Errno {
 	return p.term(t.Args[1])
 }
 
-// tokensIn are those that stand in t, but for those of a hold in it.
-func tokensIn(t api.Term) []string {
-	var out []string
-	for _, a := range t.Args {
-		out = append(out, tokensIn(a)...)
-	}
-	for _, c := range t.Cases {
-		out = append(out, tokensIn(c.Body)...)
-	}
+// contents are the names and the tokens that stand in a term, the names that lets and cases in it have, and the tokens of holds in it.
+type contents struct{ names, had, tokens, held map[string]bool }
+
+func newContents() contents {
+	return contents{map[string]bool{}, map[string]bool{}, map[string]bool{}, map[string]bool{}}
+}
+
+func (c contents) add(t api.Term) {
 	switch t.Kind {
+	case api.TmVar:
+		c.names[t.Name] = true
+		return
+	case api.TmDup, api.TmDrop, api.TmTake, api.TmHold:
+		c.names[t.Name] = true
+		c.held[t.Token] = c.held[t.Token] || t.Kind == api.TmHold
 	case api.TmUse, api.TmFree:
-		out = append(out, t.Token)
-	case api.TmHold:
-		out = slices.DeleteFunc(out, func(token string) bool { return token == t.Token })
+		c.tokens[t.Token] = true
+	case api.TmLet:
+		c.had[t.Name] = true
+	case api.TmMatch:
+		for _, k := range t.Cases {
+			for _, v := range k.Vars {
+				c.had[v] = true
+			}
+			c.add(k.Body)
+		}
+	case api.TmCon, api.TmCall, api.TmPrim:
+	default:
+		return
 	}
-	return out
+	for _, a := range t.Args {
+		c.add(a)
+	}
 }
 
 func chapter(f api.Fn) api.Errno {
@@ -224,6 +242,14 @@ func (m maker) vars() []string {
 	return out
 }
 
+// argument is a name, but for a few.
+func (m maker) argument(deep int) api.Term {
+	if deep > 0 && m.choose(30) == 0 {
+		return m.term(deep - 1)
+	}
+	return variable(m.name())
+}
+
 func (m maker) token() string { return []string{"k", "k", "k", "l", ""}[m.choose(5)] }
 
 func (m maker) term(deep int) api.Term {
@@ -234,7 +260,7 @@ func (m maker) term(deep int) api.Term {
 	switch t.Kind {
 	case api.TmCon, api.TmCall, api.TmPrim, api.TmUse:
 		for range m.choose(3) {
-			t.Args = append(t.Args, variable(m.name()))
+			t.Args = append(t.Args, m.argument(deep))
 		}
 	case api.TmLet:
 		t.Args = []api.Term{m.term(deep - 1), m.term(deep - 1)}

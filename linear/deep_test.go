@@ -45,6 +45,12 @@ func TestMuchWithin(t *testing.T) {
 		{"let, in the first term, where it is needed again", api.ErrTwice, 1, func(b api.Term, name string) api.Term {
 			return of(api.TmLet, name, b, of(api.TmDrop, "x", variable(name)))
 		}},
+		{"let, in the first term, where others have it, too", api.ErrNone, 1, func(b api.Term, name string) api.Term {
+			return of(api.TmLet, name, b, of(api.TmLet, "x", variable(name), variable("x")))
+		}},
+		{"let, in the first term, and more lets in the second one", api.OK, 1, func(b api.Term, name string) api.Term {
+			return of(api.TmLet, name, b, of(api.TmLet, "m", variable(name), of(api.TmLet, "o", variable("m"), variable("o"))))
+		}},
 		{"let, in the first term, with a token", api.OK, 2, func(b api.Term, name string) api.Term {
 			back := token(api.TmHold, name, "k", token(api.TmFree, "", "k", five))
 			return of(api.TmLet, name, b, of(api.TmLet, "m"+name, back, variable("m"+name)))

@@ -201,10 +201,7 @@ func TestLets(t *testing.T) {
 		{"(let z (match x (#1 (a) (dup a (drop x a)))) (dup a (#1 y z a)))", api.ErrNone},
 		{"(let z (let y 5 y) (#1 x y z))", api.OK},
 		{"(let z (let y 5 (#1 x y)) (#1 y z))", api.OK},
-		{"(let z (let y y y) (#1 x z))", api.ErrName},
-		{"(let z (let y (#1 y) x) z)", api.ErrName},
 		{"(let z (match x (#1 (y) (drop x 5))) (#1 y z))", api.OK},
-		{"(let z (drop y (match x (#1 (y) (drop x 5)))) z)", api.ErrName},
 		// lets within first terms of lets
 		{"(let z (let w (let v (#1 x) v) (#1 w y)) z)", api.OK},
 		{"(let z (let w (let v (#1 x y) v) (#1 w y)) z)", api.ErrTwice},
@@ -317,11 +314,73 @@ func TestTokensAndLets(t *testing.T) {
 		// those of a hold in the first term are its own
 		{"(hold x k (let z (hold y k (use k (#1))) (free k z)))", api.OK},
 		{"(hold x k (let z (hold y k (use k (#1))) z))", api.ErrLeft},
-		{"(hold x k (let z (free k (hold y k (use k (#1)))) z))", api.OK},
+		{"(hold x k (let z (free k (hold y k (use k (#1)))) z))", api.ErrNone},
 		{"(hold x k (let z (free k (hold y k (use k (#1)))) (free k z)))", api.ErrNone},
+		{"(hold x k (let z (free k (hold y l (use l (#1)))) z))", api.OK},
+		{"(hold x k (let z (match y (#0 () (free k y)) (#1 () (hold y k (use k (#1))))) z))", api.ErrNone},
+		{"(hold x k (let z (match y (#0 () (hold y k (use k (#1)))) (#1 () (free k y))) z))", api.ErrNone},
+		{"(hold x k (let z (match y (#0 () (hold y k (use k (#1))))) (free k z)))", api.OK},
+		{"(hold x k (let z (let w (free k 5) (hold y k (use k (#1)))) z))", api.ErrNone},
+		{"(hold x k (let z (let w (hold y k (use k (#1))) (free k w)) z))", api.ErrNone},
+		{"(hold x k (let z (let w (hold y k (use k (#1))) w) (free k z)))", api.OK},
+		// a hold around it, behind it, or of another token, takes none away
+		{"(hold x k (let z (free k 5) (hold y k (use k (#1 z)))))", api.ErrNone},
+		{"(match y (#1 (a) (hold x k (let z (free k 5) (hold y k (a) (use k (#1 a)))))))", api.ErrLeft},
+		{"(match y (#1 (a) (hold x k (let z (free k 5) (drop z (hold y k (a) (use k (#1 a))))))))", api.OK},
+		{"(hold x k (hold y l (let z (free k (use l (#1))) z)))", api.OK},
 		{"(let z (hold x k (free k 5)) (hold y k (free k z)))", api.OK},
 		{"(let z (hold x k 5) (free k (#1 y z)))", api.ErrLeft},
 	})
+}
+
+// Of names that a let or a case in a let's first term has, that term has none of outside, wherever else in it they stand.
+func TestNamesThatSomethingInTheFirstTermHas(t *testing.T) {
+	foundAll(t, []row{
+		// as a let's
+		{"(let z (let y y y) (#1 x z))", api.ErrNone},
+		{"(let z (let y (#1 y) x) z)", api.ErrNone},
+		{"(let z (drop x (let x y x)) z)", api.ErrNone},
+		{"(let z (drop y (let w (let y x y) w)) z)", api.ErrNone},
+		{"(let z (let w (drop y 5) (let y x y)) z)", api.ErrNone},
+		{"(let z (let w (let y x y) (drop y w)) z)", api.ErrNone},
+		{"(let z (dup y (let y x (#1 y))) z)", api.ErrNone},
+		{"(let z (take y (let y x (#1 y))) z)", api.ErrNone},
+		{"(let z (hold y k (free k (let y x (#1 y)))) z)", api.ErrNone},
+		{"(let z (match y (#0 () (let y x y))) z)", api.ErrNone},
+		// as a case's
+		{"(let z (drop y (match x (#1 (y) (drop x 5)))) z)", api.ErrNone},
+		{"(let z (drop x (match y (#1 (a x) y))) z)", api.ErrNone},
+		{"(let z (match x (#0 () (#1 x y)) (#1 (y) x)) z)", api.ErrNone},
+		{"(let z (match x (#0 (y) x) (#1 () (#1 x y))) z)", api.ErrNone},
+		{"(let z (match x (#1 (x) 5)) (#1 y z))", api.ErrNone},
+		// it stays outside as it was
+		{"(let z (let y x y) (#1 y z))", api.OK},
+		{"(let z (match x (#1 (y) (take x (y) y))) (#1 y z))", api.OK},
+		{"(let z (let y x y) z)", api.ErrLeft},
+		{"(drop y (let z (let y x y) z))", api.OK},
+		{"(drop y (let z (let y x y) (#1 y z)))", api.ErrTwice},
+		{"(dup y (let z (let y x y) (#1 y z y)))", api.OK},
+		{"(let z (let w (let y x y) w) (#1 y z))", api.OK},
+		// what has it around the first term, behind it, or beside it, takes none away
+		{"(let w x (let z (drop w 5) (#1 y z)))", api.OK},
+		{"(let z (drop x 5) (let w (let v y v) (#1 z w)))", api.OK},
+		{"(let z (drop x 5) (let x y (#1 x z)))", api.ErrName},
+		{"(let z (drop x 5) (let w (let x y x) (#1 z w)))", api.OK},
+		{"(let z (let v (drop x 5) (let w (let u y u) (#1 v w))) z)", api.OK},
+		{"(match x (#0 () (let z (drop x 5) (#1 y z))) (#1 (a) (let z (let w (let v x v) w) (#1 y z))))", api.OK},
+		// the first term of a let in it may have what is left to it
+		{"(let z (let w x (let x 5 (#1 x w))) (#1 y z))", api.ErrNone},
+		{"(let z (let w x (let v 5 (#1 v w))) (#1 y z))", api.OK},
+	})
+	shadowed := of(api.TmCon, "", variable("y"), of(api.TmLet, "y", whole(5), variable("y")))
+	found(t, api.ErrNone, of(api.TmLet, "z", shadowed, variable("z")), "y")
+	for n := range 4 {
+		short := of(api.TmLet, "y", slices.Repeat([]api.Term{variable("x")}, n)...)
+		found(t, api.ErrNone, of(api.TmLet, "z", of(api.TmDrop, "y", short), variable("z")), "x", "y")
+		hold := api.Term{Kind: api.TmHold, Name: "x", Token: "k", Args: slices.Repeat([]api.Term{whole(5)}, n)}
+		b := token(api.TmHold, "x", "k", of(api.TmLet, "z", token(api.TmFree, "", "k", hold), variable("z")))
+		found(t, api.ErrNone, b, "x")
+	}
 }
 
 func TestWhatHasNoPartIn(t *testing.T) {

@@ -27,9 +27,11 @@ func undone(l look) look {
 	}
 }
 
-// apart looks with l at what has nothing but its part: these names and tokens.
-func apart(names, tokens map[string]int, l look) look {
-	return func(w *way) api.Errno { return l(w.part(names, tokens)) }
+// apart looks with l at what has nothing but its part: what these pieces ask for.
+func apart(names, tokens *piece, l look) look {
+	return func(w *way) api.Errno {
+		return l(w.part(names.outOf(w.names), tokens.outOf(w.tokens)))
+	}
 }
 
 func wrong(err api.Errno) look {

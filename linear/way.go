@@ -73,21 +73,20 @@ func (w *way) backTo(done int) {
 }
 
 // part is a way of its own, that has what w has of these: one of each name, and all tokens.
-func (w *way) part(names, tokens map[string]int) *way {
+func (w *way) part(names, tokens []string) *way {
 	// What it lays is taken back at the end of each case in it, so that what lies in what need not be copied.
 	p := newWay(w.lies)
-	for name := range names {
-		if w.knows(name) {
-			one := min(w.names[name], 1)
-			p.count(name, one)
-			w.count(name, w.names[name]-one)
+	for _, name := range names {
+		p.names[name] = 0
+		if w.isThere(name) {
+			p.names[name]++
+			p.left++
+			w.count(name, w.names[name]-1)
 		}
 	}
-	for token := range tokens {
-		if w.has(token) {
-			p.keep(token, w.tokens[token])
-			w.spend(token)
-		}
+	for _, token := range tokens {
+		p.keep(token, w.tokens[token])
+		w.spend(token)
 	}
 	return p
 }
